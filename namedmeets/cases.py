@@ -31,9 +31,7 @@ def asks_nothing(row):
 
 
 def asked_columns(rows):
-    """The indices of the columns in which some row asks for a maker."""
-    if len(rows) == 0:
-        return ()
+    """The indices of the columns in which some row asks for a maker. There is at least one row."""
     return tuple([k for k in range(len(rows[0])) if not asks_nothing([row[k] for row in rows])])
 
 

@@ -101,7 +101,7 @@ def start_of(flat, name):
 def row_for(function, maker):
     """The FlatRow of a flat function for the maker with this name."""
     for row in function.rows:
-        if isinstance(maker, str) and row.maker == maker:
+        if row.maker == maker:
             return row
     raise NoName(maker)
 

@@ -38,19 +38,21 @@ class Flattening:
         self.starts = {}
         self.led = {}
 
+    def led_part(self, one, told):
+        """What a body of the text is led to, told being what the bodies in it are led to."""
+        if isinstance(one, Let):
+            return put_in(self.namer, told[0], one.name, told[1])
+        if isinstance(one, Applied) and one.name in self.functions:
+            return called_in_place(self.namer, self.starts[one.name], told)
+        return one.with_inner(told)
+
     def led_body(self, function, index):
         """The body of a row of the text without lets, and with Starts in the place of calls."""
-        if (function.name, index) not in self.led:
-
-            def fold(one, told):
-                if isinstance(one, Let):
-                    return put_in(self.namer, told[0], one.name, told[1])
-                if isinstance(one, Applied) and one.name in self.functions:
-                    return called_in_place(self.namer, self.starts[one.name], told)
-                return one.with_inner(told)
-
-            self.led[(function.name, index)] = folded(function.rows[index].body, fold)
-        return self.led[(function.name, index)]
+        key = (function.name, index)
+        if key not in self.led:
+            body = function.rows[index].body
+            self.led[key] = folded(body, lambda one, told: self.led_part(one, told))
+        return self.led[key]
 
     def rows_in_force(self, function, index):
         """The rows of the text that come into force where this one does."""

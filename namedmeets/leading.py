@@ -49,8 +49,8 @@ def put_in(namer, part, name, body):
 def own_names_once(namer, names, body):
     """The body of a row with these names, each of which then stands exactly once."""
     for name in reversed(names):
-        if places_in(body).count(name) != 1:
-            body = put_in(namer, Place(name), name, body)
+        # Where the name stands once, it comes into its own place.
+        body = put_in(namer, Place(name), name, body)
     return body
 
 

@@ -10,7 +10,7 @@ from namedmeets.values import Made, is_integer
 
 def refuse_no_kind(program, kind):
     """Raises NoName if a program has no kind with this name, and it is not that of numbers."""
-    if named_in(program.kinds, kind) is None and not (isinstance(kind, str) and kind == NUM):
+    if named_in(program.kinds, kind) is None and kind != NUM:
         raise NoName(kind)
 
 

@@ -58,7 +58,6 @@ def kind_from(reader):
     while reader.next_word() == "|":
         reader.take_next()
         makers.append(Maker(reader.taken(is_big), names_up_to(reader, ("|", ""))))
-    reader.must_end()
     return Kind(name, makers)
 
 

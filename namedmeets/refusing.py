@@ -6,7 +6,7 @@ from namedmeets.errors import BadProgram
 from namedmeets.least import least_values
 from namedmeets.patterns import missing
 from namedmeets.reading import KindLine
-from namedmeets.tables import NUM, SIGNS, heads_of, makers_of, named_in
+from namedmeets.tables import NUM, heads_of, makers_of, named_in
 from namedmeets.trees import Applied, Shape
 
 
@@ -124,7 +124,7 @@ def untested_calls(program):
     calls = {}
     for one in untested:
         named = [body.name for body in all_in(one.rows[0].body) if isinstance(body, Applied)]
-        calls[one.name] = [name for name in named if name not in SIGNS and named_in(untested, name) is not None]
+        calls[one.name] = [name for name in named if named_in(untested, name) is not None]
     return calls
 
 

@@ -9,7 +9,7 @@ COMPARING = ("<", "=")
 def named_in(things, name):
     """The first of some things with names that has this name, None if none has. The name may be any value."""
     for thing in things:
-        if isinstance(name, str) and thing.name == name:
+        if thing.name == name:
             return thing
     return None
 

@@ -1,7 +1,8 @@
 """What programs consist of: kinds and makers, functions and rows, patterns and bodies.
 
 Patterns and bodies tell what they consist of in one way: inner() has the patterns or bodies that stand directly
-in one, in the order of the text, and with_inner(inner) is the same form with others in their places.
+in one, in the order of the text. with_inner(inner) is the same form with others in their places; what stands in
+bodies of flat programs has it.
 """
 
 
@@ -65,10 +66,6 @@ class Shape:
         """The patterns of its parts."""
         return self.parts
 
-    def with_inner(self, inner):
-        """The same maker with other patterns."""
-        return Shape(self.maker, inner)
-
 
 class Number:
     """A number as a body."""
@@ -112,7 +109,3 @@ class Let:
     def inner(self):
         """The body that the name stands for, and the body with the name."""
         return (self.one, self.body)
-
-    def with_inner(self, inner):
-        """The same name with other bodies."""
-        return Let(self.name, inner[0], inner[1])

@@ -122,6 +122,14 @@ class Meaning(unittest.TestCase):
         self.assertEqual(run("left", (value, "Nil"))[1], 5001)
         self.assertEqual(run("dbl", (10 ** 900,)), ("2" + "0" * 900, 3))
 
+    def test_names_that_sound_like_steps(self):
+        program = Program("fun f Num Num Num = Num\nf copy leave place = - (+ copy copy) (* leave leave)\n"
+                          "fun g Num Num Num = Num\ng make call sign = let number = 7 in + (- make number) 1")
+        for name, value, count in (("f", 1, 1 + 1 + 1 + 2 + 2 + 2), ("g", -1, 1 + 1 + 2 + 2)):
+            came = flat_plain(flattened(program), name, [5, 3, 100], 100)
+            self.assertEqual((came.value, came.count), (value, count))
+            self.assertEqual(plain(program, name, [5, 3, 100], 100).value, value)
+
     def test_flat_programs_that_callers_make(self):
         x = Place
         rows = (FlatRow("Yes", ("n",), Copy(x("n"), "a", "b", Applied("f", (Applied("No", ()), Applied(

@@ -180,7 +180,8 @@ class Errors(unittest.TestCase):
             raises(self, NoName, {"name": name}, plain, PROGRAM, name, [], 5)
 
     def test_too_few_and_too_many_values(self):
-        for name, values in (("same", []), ("same", [1, 2]), ("five", [1]), ("sum3", [1, 2]), ("sum3", (1, 2, 3, 4))):
+        for name, values in (("same", []), ("same", [1, 2]), ("five", [1]), ("sum3", [1, 2]), ("sum3", (1, 2, 3, 4)),
+                             ("same", None), ("five", 0), ("same", "1")):
             raises(self, BadValue, {"value": values, "why": "count"}, plain, PROGRAM, name, values, 5)
         values = [1, 2]
         with self.assertRaises(BadValue) as caught:

@@ -173,6 +173,8 @@ class Cells(unittest.TestCase):
         for place in ((2,), (-1,), (0, 2), (0, -1), (1, 0), (0, 0, 0), (0, 1, 1), [0, 1, 0, 0], (True,), (None,)):
             raises(self, NoName, {"name": place}, value_with, value, place, 1)
         raises(self, NoName, {"name": (0,)}, value_with, 7, (0,), 1)
+        for place in (None, 0, "0", "", value):
+            raises(self, NoName, {"name": place}, value_with, value, place, 1)
         place = [0, 7]
         with self.assertRaises(NoName) as caught:
             value_with(value, place, 1)
