@@ -42,7 +42,7 @@ def tests_of(program, name, values):
     """The pair of how many makers are looked at until the row of a function is settled, and its index."""
     question = first_question(called(program, name, values))
     makers = makers_of(program.kinds)
-    namer = Namer()
+    namer = Namer({})
     left = tuple(values)
     many = 0
     at = looked_at(question)

@@ -31,7 +31,7 @@ class Flattening:
     """
 
     def __init__(self, program):
-        self.namer = Namer()
+        self.namer = Namer({})
         self.makers = {kind.name: kind.makers for kind in program.kinds}
         self.functions = {one.name: one for one in program.functions}
         self.settled = {one.name: True for one in program.functions if not tests(one)}

@@ -6,16 +6,21 @@ from namedmeets.trees import Applied, Place
 
 
 class Namer:
-    """Gives new names: a working object. They have a point, which no name of a text has."""
+    """Gives new names: a working object. They have a point, which no name of a text has; taken are not given."""
 
-    def __init__(self):
+    def __init__(self, taken):
+        self.taken = dict(taken)
         self.given = 0
 
     def new_names(self, many):
         """So many names that have not been given before."""
-        first = self.given
-        self.given += many
-        return tuple([f"n.{k}" for k in range(first, self.given)])
+        names = []
+        while len(names) < many:
+            name = f"n.{self.given}"
+            self.given += 1
+            if name not in self.taken:
+                names.append(name)
+        return tuple(names)
 
 
 def replaced(body, name, bodies):
@@ -63,7 +68,7 @@ def with_makers(namer, looked, body):
 
 
 def called_in_place(namer, start, parts):
-    """The body of a Start with parts in the places of its names, the names that its Copies give made new."""
+    """The body of a Start or FlatRow with parts in the places of its names, those that its Copies give made new."""
     given = dict(zip(start.names, parts))
     renamed = {}
     for copy in copies_in(start.body):

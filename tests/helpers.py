@@ -5,7 +5,7 @@ Nothing here uses the functions that it is compared with.
 
 import sys
 
-from namedmeets.flat import Copy, Leave
+from namedmeets.flat import Copy, Flat, FlatFunction, FlatRow, Leave, Start
 from namedmeets.trees import Applied, Let, Number, Place, Shape
 from namedmeets.values import Made
 
@@ -134,6 +134,8 @@ class SlowRun:
         self.fuel = fuel
         self.count = 0
         self.rows = []
+        # The rows of a flat program that were entered, as slow_settled tells them.
+        self.entered = []
         self.makers = [maker.name for kind in program.kinds for maker in kind.makers]
 
     def spend(self, many):
@@ -154,6 +156,7 @@ class SlowRun:
     def start(self, name, values):
         start = [one for one in self.flat.starts if one.name == name][0]
         self.rows.extend(start.rows)
+        self.entered.append((name, None))
         return self.value(start.body, dict(zip(start.names, values)))
 
     def flat_call(self, name, values):
@@ -161,6 +164,7 @@ class SlowRun:
         row = [one for one in function.rows if one.maker == values[0].maker][0]
         self.spend(1)
         self.rows.extend(row.rows)
+        self.entered.append((name, row.maker))
         return self.value(row.body, dict(zip(row.names, values[0].parts + tuple(values[1:]))))
 
     def value(self, body, names):
@@ -219,7 +223,8 @@ def flat_text(names, body):
     called = {}
 
     def call(name):
-        called[name] = "abcdefghijklmnopqrstuvwxyz"[len(called)]
+        at = len(called)
+        called[name] = "abcdefghijklmnopqrstuvwxyz"[at % 26] + (str(at // 26) if at >= 26 else "")
         return called[name]
 
     def text(one, inside):
@@ -257,6 +262,124 @@ def flat_texts(flat):
 
 def rows_text(rows):
     return "".join([f" | {name} {index}" for name, index in rows])
+
+
+# Settling
+
+
+def with_bodies(body, bodies):
+    """A flat body with others in the place of its names, those that its Copies give made new."""
+    if isinstance(body, Place):
+        return bodies[body.name]
+    if isinstance(body, Number):
+        return body
+    if isinstance(body, Copy):
+        one, two = fresh("s"), fresh("s")
+        known = {**bodies, body.one: Place(one), body.two: Place(two)}
+        return Copy(with_bodies(body.part, bodies), one, two, with_bodies(body.body, known))
+    if isinstance(body, Leave):
+        return Leave(with_bodies(body.part, bodies), with_bodies(body.body, bodies))
+    return Applied(body.name, [with_bodies(part, bodies) for part in body.parts])
+
+
+FRESH = [0]
+
+
+def fresh(word):
+    """A name that was never given before."""
+    FRESH[0] += 1
+    return f"{word}!{FRESH[0]}"
+
+
+class SlowSettling:
+    """Makes steps ahead by calling itself, and keeps which rows come in and how much is counted less."""
+
+    def __init__(self, flat):
+        self.functions = {one.name: one for one in flat.functions}
+        self.makers = [maker.name for kind in flat.program.kinds for maker in kind.makers]
+        self.rows = []
+        self.saved = 0
+
+    def done(self, row):
+        """The new body, the new rows and what is saved."""
+        self.rows, self.saved = list(row.rows), 0
+        names = {name: Place(name) for name in row.names}
+        body = self.turn(with_bodies(row.body, names))
+        return body, tuple(self.rows), self.saved
+
+    def made(self, body):
+        return isinstance(body, Applied) and body.name in self.makers
+
+    def turn(self, body):
+        if isinstance(body, (Place, Number)):
+            return body
+        if isinstance(body, Leave):
+            part, inner = self.turn(body.part), self.turn(body.body)
+            if not self.made(part) and not isinstance(part, Number):
+                return Leave(part, inner)
+            self.saved += 1
+            return self.around(getattr(part, "parts", ()), lambda one, whole: Leave(one, whole), inner)
+        if isinstance(body, Copy):
+            part, inner = self.turn(body.part), self.turn(body.body)
+            if not self.made(part) and not isinstance(part, Number):
+                return Copy(part, body.one, body.two, inner)
+            self.saved += 1
+            if isinstance(part, Number):
+                return self.in_place(inner, {body.one: part, body.two: part})
+            names = [(one, fresh("s"), fresh("s")) for one in part.parts]
+            makers = {body.one: Applied(part.name, [Place(one) for _, one, _ in names]),
+                      body.two: Applied(part.name, [Place(two) for _, _, two in names])}
+            return self.around(names, lambda one, whole: Copy(*one, whole), self.in_place(inner, makers))
+        body = Applied(body.name, [self.turn(part) for part in body.parts])
+        return self.applied(body)
+
+    def in_place(self, body, bodies):
+        """A body with others in the place of some names."""
+        if isinstance(body, Place):
+            return bodies.get(body.name, body)
+        if isinstance(body, Number):
+            return body
+        if isinstance(body, Copy):
+            return Copy(self.in_place(body.part, bodies), body.one, body.two, self.in_place(body.body, bodies))
+        if isinstance(body, Leave):
+            return Leave(self.in_place(body.part, bodies), self.in_place(body.body, bodies))
+        return Applied(body.name, [self.in_place(part, bodies) for part in body.parts])
+
+    def around(self, ones, make, whole):
+        """Forms around a body, the first one outermost."""
+        for one in reversed(ones):
+            whole = make(one, whole)
+        return whole
+
+    def applied(self, body):
+        if body.name in SIGNS and all([isinstance(part, Number) for part in body.parts]):
+            self.saved += 2
+            value = SIGNS[body.name](body.parts[0].number, body.parts[1].number)
+            return Applied(value.maker, ()) if isinstance(value, Made) else Number(value)
+        if body.name in self.functions and self.made(body.parts[0]):
+            self.saved += 1
+            row = [one for one in self.functions[body.name].rows if one.maker == body.parts[0].name][0]
+            self.rows.extend(row.rows)
+            return with_bodies(row.body, dict(zip(row.names, body.parts[0].parts + body.parts[1:])))
+        return body
+
+
+def slow_settled(flat):
+    """The settled flat program, and for each row, as (name, its maker, None for Starts), what is counted less."""
+    work = SlowSettling(flat)
+    saved = {}
+    functions = []
+    for function in flat.functions:
+        rows = []
+        for row in function.rows:
+            body, texts, saved[(function.name, row.maker)] = work.done(row)
+            rows.append(FlatRow(row.maker, row.names, body, texts))
+        functions.append(FlatFunction(function.name, function.origin, function.places, function.result, rows))
+    starts = []
+    for start in flat.starts:
+        body, texts, saved[(start.name, None)] = work.done(start)
+        starts.append(Start(start.name, start.names, body, texts))
+    return Flat(flat.program, functions, starts), saved
 
 
 # Made-up programs
