@@ -1,6 +1,6 @@
 """Doing meetings in a net, one after the other."""
 
-from namedmeets.labels import is_maker, line_of
+from namedmeets.labels import line_of
 from namedmeets.meetings import brought
 
 
@@ -36,8 +36,9 @@ class Doing:
         """Ties two ends; returns the lines that can be done by it: one, or none."""
         self.source[taking] = giving
         self.target[giving] = taking
-        if giving[1] != 0 or taking[1] != 0 or taking[0] not in self.labels or is_maker(self.labels[taking[0]]):
+        if giving[1] != 0 or taking[1] != 0 or taking[0] not in self.labels:
             return []
+        # The head of a maker is tied to the head of a worker.
         line = line_of(taking[0], self.labels[giving[0]])
         self.waiting[line] = taking[0]
         return [line]
@@ -67,13 +68,21 @@ class Doing:
             lines.extend(self.tie(giving, taking))
         return lines
 
-    def do_among(self, wanted):
-        """Does the meetings among the keys of a dict that can be done, as long as one can; returns their lines."""
-        lines = []
-        waiting = list(self.waiting)
-        while waiting:
-            line = waiting.pop()
-            if line in wanted:
-                lines.append(line)
-                waiting.extend(self.do(line))
-        return lines
+    def do_those(self, wanted, most):
+        """Does meetings for which wanted(line, worker) holds, as long as one can be done, and at most so many."""
+        lines = list(self.waiting)
+        many = 0
+        while lines and many < most:
+            line = lines.pop()
+            if wanted(line, self.waiting[line]):
+                lines.extend(self.do(line))
+                many += 1
+
+    def do_among(self, words):
+        """Does those meetings that are among some words, whatever values these are."""
+        table = {word: True for word in words if isinstance(word, str)}
+        self.do_those(lambda line, _: line in table, len(table))
+
+    def lines_done(self):
+        """The sorted names of the meetings that were done."""
+        return tuple(sorted([one.line for one in self.done]))

@@ -17,7 +17,7 @@ def can_meet(book, label, other):
     """Whether a cell with this label is a worker that can meet a maker with the other label."""
     if label[0] == "work":
         function = book.functions.get(label[1])
-        return function is not None and other[0] == "maker" and other[1] in [row.maker for row in function.rows]
+        return function is not None and other[1] in [row.maker for row in function.rows]
     if label[0] == "step":
         return other[0] == "number"
     return not is_maker(label)

@@ -111,7 +111,8 @@ def met(book, net, line):
 def worked(book, lines):
     """The work behind a list of meetings, each of which must be done by it."""
     work = doing_from(book, started(book))
-    done = {line: True for line in work.do_among({line: True for line in lines})}
+    work.do_among(lines)
+    done = {line: True for line in work.lines_done()}
     for line in lines:
         if line not in done:
             raise BadNet(line)
@@ -133,7 +134,7 @@ def done_all(book, net, most):
         line = heappop(waiting)
         for new in work.do(line):
             heappush(waiting, new)
-    return (net_in(work), tuple(sorted([one.line for one in work.done])))
+    return (net_in(work), work.lines_done())
 
 
 def answer_of(net):

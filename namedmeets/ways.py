@@ -8,20 +8,37 @@ from namedmeets.values import is_integer
 
 
 class Story:
-    """A state of a book, and what has been in it."""
+    """A state of a book, and what has been in it.
+
+    onward has for each end the one to which it goes on, tails_gone for each giving tail of a worker that is gone the
+    line by which it went, causes_of for each line its causes ([48]), and heights its height ([50]); the lines stand in
+    both behind their causes.
+    """
 
     def __init__(self, book, lines):
         work = worked(book, lines)
         self.book = book
-        self.lines = tuple(sorted([one.line for one in work.done]))
+        self.lines = work.lines_done()
         self.net = net_in(work)
         start = started(book)
         self.cells = {cell.name: cell for cell in start.cells}
         self.lines_born = {}
         self.lines_gone = {}
         self.onward = {taking: giving for giving, taking in start.ties}
+        self.tails_gone = {}
+        self.causes_of = {}
+        self.heights = {}
         for one in work.done:
+            self.keep_causes(one)
             self.keep(one)
+
+    def keep_causes(self, one):
+        """Keeps the causes and the height of a meeting, all lines that come ahead of it being kept."""
+        found = [self.lines_born.get(one.worker), self.lines_born.get(one.maker)]
+        found.extend([self.tails_gone.get(end) for end in self.row_from((one.worker, 0))])
+        causes = tuple(sorted(set([line for line in found if line is not None])))
+        self.causes_of[one.line] = causes
+        self.heights[one.line] = 1 + max([self.heights[line] for line in causes], default=0)
 
     def keep(self, one):
         """Keeps what came and went by a meeting."""
@@ -32,6 +49,17 @@ class Story:
             self.lines_born[cell.name] = one.line
         for giving, taking in one.ties:
             self.onward[taking] = giving
+            if taking[0] == one.worker:
+                self.tails_gone[taking] = one.line
+
+    def row_from(self, end):
+        """The row of ends from an end on, each of which goes on to the next one."""
+        ends = []
+        one = end
+        while one is not None:
+            ends.append(one)
+            one = self.onward.get(one)
+        return tuple(ends)
 
     def refuse_name(self, name):
         """Raises NoName if no cell that has been has this name."""
@@ -77,9 +105,4 @@ class Story:
         """The row of ends from a taking end on, each of which goes on to the next one."""
         if self.refuse_end(end):
             raise BadNumber("taking", end[1])
-        ends = []
-        one = end
-        while one is not None:
-            ends.append(one)
-            one = self.onward.get(one)
-        return tuple(ends)
+        return self.row_from(end)

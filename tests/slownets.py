@@ -128,6 +128,16 @@ class SlowNet:
         return Net([Cell(name, label) for name, label in self.labels.items()], self.ties)
 
 
+def done_slowly(book, words):
+    """The greatest subset of some strings that can be done, in an order in which they can."""
+    net, done = SlowNet(book), []
+    words = sorted(set(words))
+    while [word for word in words if word in net.meetings()]:
+        done.append([word for word in words if word in net.meetings()][0])
+        net.meet(done[-1])
+    return done
+
+
 def told(net):
     """All of a net, to compare it."""
     return [(cell.name, cell.label) for cell in net.cells], net.ties

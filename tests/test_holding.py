@@ -79,6 +79,8 @@ class Kept(unittest.TestCase):
             ("c 2 root 0", "c 2 root 0\nd 0 e 0"), ("a number 1\n", ""), ("c step +", "c step + 1"),
         ):
             self.changed("ends", self.NUMBERS, change)
+        for cells in ("d leave\ne leave", "d number 1\ne number 2"):
+            self.changed("ends", self.NUMBERS, ("c step +", f"c step +\n{cells}"), ("c 2 root 0", "c 2 root 0\nd 0 e 0"))
 
     def test_kinds(self):
         nil = "a maker Nil\n\na 0 root 0\n"
@@ -130,6 +132,14 @@ class Kept(unittest.TestCase):
         self.check(None, work.format("maker Leaf"))
         self.check("kinds", work.format("maker Nil"))
         self.check("kinds", work.format("number 1"))
+
+    def test_copies_on_a_ring(self):
+        # Nothing tells their kind from above; what they feed is of one kind, or of two.
+        text = "a copy\nb copy\nc copy\nd copy\ne leave\nf leave\ng work tree\nh work {}\ni step +\n\n" \
+            "a 1 b 0\nb 1 a 0\na 2 c 0\nb 2 d 0\nc 1 e 0\nd 1 f 0\nc 2 g 0\nd 2 h 0\ng 1 i 0\nh {} i 1\ni 2 root 0\n"
+        self.check("ring", text.format("tree", 1))
+        lists = text.replace("work {}", "work mixed/1").replace("h {}", "h 2").replace("i step", "j number 4\ni step")
+        self.check("kinds", lists + "j 0 h 1\n")
 
     def test_rings(self):
         self.check(None, "a copy\nb step +\nc number 1\n\nc 0 a 0\na 1 b 0\na 2 b 1\nb 2 root 0\n")

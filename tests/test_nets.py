@@ -13,7 +13,7 @@ from namedmeets.programs import Program
 from namedmeets.settling import settled
 from namedmeets.values import value_from, written_value
 from tests.helpers import chain, raises
-from tests.slownets import SlowNet, net_from, net_text, some_books, some_run, told
+from tests.slownets import SlowNet, done_slowly, net_from, net_text, some_books, some_run, told
 from tests.test_flatrun import FLAT, given
 
 MORE = flattened(Program("""kind List = Nil | Cons Num List
@@ -569,15 +569,6 @@ class Met(unittest.TestCase):
         self.assertGreater(steps, 500)
 
 
-def net_lines(book, words):
-    """The greatest subset of some words that can be done, by trying again and again."""
-    net, done = SlowNet(book), []
-    while [word for word in words if word in net.meetings()]:
-        done.append([word for word in words if word in net.meetings()][0])
-        net.meet(done[-1])
-    return done
-
-
 class NetOf(unittest.TestCase):
     def test_in_any_order_and_twice(self):
         for seed, book in some_books(range(15)):
@@ -610,7 +601,7 @@ class NetOf(unittest.TestCase):
         behind = [line for line in without if line.startswith("m:0.Cons.0.Cons.")]
         self.assertGreater(len(behind), 1)
         raises(self, BadNet, {"what": behind[0]}, net_of, book, without)
-        last = [line for line in without if line not in net_lines(book, without)][-1]
+        last = [line for line in without if line not in done_slowly(book, without)][-1]
         raises(self, BadNet, {"what": last}, net_of, book, list(reversed(without)))
 
 
