@@ -81,7 +81,7 @@ class Doing:
     def do_among(self, words):
         """Does those meetings that are among some words, whatever values these are."""
         table = {word: True for word in words if isinstance(word, str)}
-        self.do_those(lambda line, _: line in table, len(table))
+        self.do_those(lambda line, worker: line in table, len(table))
 
     def lines_done(self):
         """The sorted names of the meetings that were done."""

@@ -33,7 +33,7 @@ def work_of(book, snap):
     """The work from the start net on of the state that a snapshot is of, if it is of one."""
     where = Where(snap.net)
     work = doing_from(book, started(book))
-    work.do_those(lambda _, worker: where.is_gone(worker), snap.count)
+    work.do_those(lambda line, worker: where.is_gone(worker), snap.count)
     return work
 
 
@@ -73,7 +73,7 @@ def merged(book, one, two):
     """The snapshot of the union of the states of two snapshots."""
     where = Where(two.net)
     work = doing_from(book, one.net)
-    work.do_those(lambda _, worker: where.is_gone(worker), two.count)
+    work.do_those(lambda line, worker: where.is_gone(worker), two.count)
     return snapshot_behind(one, work)
 
 
@@ -82,7 +82,7 @@ def shared(book, one, two):
     where = Where(one.net)
     other = Where(two.net)
     work = doing_from(book, started(book))
-    work.do_those(lambda _, worker: where.is_gone(worker) and other.is_gone(worker), one.count)
+    work.do_those(lambda line, worker: where.is_gone(worker) and other.is_gone(worker), one.count)
     return Snapshot(len(work.done), net_in(work))
 
 

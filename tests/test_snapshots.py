@@ -167,7 +167,7 @@ class Sets(unittest.TestCase):
         rnd.shuffle(words)
         told = grown(book, here, words)
         self.assertTrue(told == snapshot(book, whole_part(book, one + words)))
-        self.assertTrue(told == merged(book, here, there))
+        self.assertTrue(grown(book, here, two) == merged(book, here, there))
         some = [line for line in two if rnd.random() < 0.6]
         self.assertTrue(grown(book, here, some) == snapshot(book, whole_part(book, one + some)))
         self.assertTrue(grown(book, here, []) == here)
