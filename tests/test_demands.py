@@ -113,7 +113,7 @@ class Missing(unittest.TestCase):
             end = [taking for giving, taking in started(book).ties if giving[0] == work][0]
             for fuel in (0, 1, 2, 500):
                 self.assertIsNone(missing(book, [], end, fuel))
-                self.assertIsNone(missing(book, [f"{work}.Yes"], (f"{work}.Yes.0", 0) if fuel < 0 else end, fuel))
+                self.assertIsNone(missing(book, [f"{work}.Yes"], end, fuel))
         # In a run that goes on for ever some ends have all that they need.
         book = book_of("grow", 0)
         told = missing(book, [], ROOT, 100)
