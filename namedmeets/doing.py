@@ -1,5 +1,7 @@
 """Doing meetings in a net, one after the other."""
 
+from heapq import heappop, heappush
+
 from namedmeets.labels import line_of
 from namedmeets.meetings import brought
 
@@ -82,6 +84,24 @@ class Doing:
         """Does those meetings that are among some words, whatever values these are."""
         table = {word: True for word in words if isinstance(word, str)}
         self.do_those(lambda line, worker: line in table, len(table))
+
+    def do_least(self, most):
+        """Does meetings, the least line first, as long as one can be done, and at most so many; returns how many."""
+        lines = sorted(list(self.waiting))
+        many = 0
+        while lines and many < most:
+            line = heappop(lines)
+            many += 1
+            for new in self.do(line):
+                heappush(lines, new)
+        return many
+
+    def twin(self):
+        """The same net, with the same lines done, in which other meetings can be done."""
+        ties = [(giving, taking) for taking, giving in self.source.items()]
+        other = Doing(self.book, list(self.labels.items()), ties)
+        other.done = list(self.done)
+        return other
 
     def lines_done(self):
         """The sorted names of the meetings that were done."""

@@ -1,7 +1,5 @@
 """Nets of cells that meet two by two."""
 
-from heapq import heappop, heappush
-
 from namedmeets.calls import called
 from namedmeets.doing import Doing
 from namedmeets.errors import BadNet, TooMany
@@ -127,13 +125,9 @@ def net_of(book, lines):
 def done_all(book, net, most):
     """The pair of the net behind all meetings that can be done from a net on, and their sorted names."""
     work = doing_from(book, net)
-    waiting = sorted(list(work.waiting))
-    while waiting:
-        if len(work.done) >= most:
-            raise TooMany("meetings", most, most)
-        line = heappop(waiting)
-        for new in work.do(line):
-            heappush(waiting, new)
+    work.do_least(most)
+    if work.waiting:
+        raise TooMany("meetings", most, most)
     return (net_in(work), work.lines_done())
 
 

@@ -2,7 +2,7 @@
 
 from namedmeets.errors import BadText
 from namedmeets.tables import SIGNS
-from namedmeets.words import DIGITS, all_among
+from namedmeets.words import is_written
 
 MOST_COUNT = 2000
 MOST_FIGURES = 1000
@@ -11,10 +11,8 @@ MOST_FIGURES = 1000
 def integer_from(word):
     """The integer that a word tells in its one form, None if it tells none."""
     figures = word[1:] if word[:1] == "-" else word
-    if figures == "" or len(figures) > MOST_FIGURES or not all_among(figures, DIGITS):
-        return None
-    number = int(word)
-    return number if str(number) == word else None
+    # Longer words are no integers for Python.
+    return int(word) if is_written(word) and len(figures) <= MOST_FIGURES else None
 
 
 def natural_from(word):

@@ -33,14 +33,29 @@ def is_small(word):
     return word not in KEYWORDS and is_name(word, SMALL_LETTERS)
 
 
+def is_natural(word):
+    """Whether a string is an integer from 0 on as it is written, of any length."""
+    return word.isascii() and word.isdigit() and (word[0] != "0" or word == "0")
+
+
+def is_written(word):
+    """Whether a string is an integer as it is written, of any length."""
+    if word[:1] == "-":
+        return is_natural(word[1:]) and word != "-0"
+    return is_natural(word)
+
+
 def is_number(word):
     """Whether a string is a number."""
-    digits = word[1:] if word[:1] == "-" else word
-    if digits == "" or len(digits) > MOST_DIGITS or not all_among(digits, DIGITS):
-        return False
-    if digits[0] == "0":
-        return word == "0"
-    return True
+    return is_written(word) and len(word.lstrip("-")) <= MOST_DIGITS
+
+
+def text_lines(text):
+    """The lines of a text, cut at its line feeds; nothing follows the last one if the text ends with it."""
+    lines = text.split("\n")
+    if lines[-1] == "":
+        lines.pop()
+    return lines
 
 
 def words_of(line):
@@ -57,6 +72,16 @@ def words_of(line):
                 words.append((sign, at + 1))
             start = at + 1
     return tuple(words)
+
+
+def split_at_blanks(line):
+    """The pairs (piece, its column) of the pieces of a line between its blanks, empty ones too."""
+    pairs = []
+    column = 1
+    for piece in line.split(" "):
+        pairs.append((piece, column))
+        column += len(piece) + 1
+    return pairs
 
 
 def end_of(words):
