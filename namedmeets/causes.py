@@ -20,17 +20,22 @@ def causes(story, line):
     return story.causes_of[line]
 
 
-def past(story, line):
-    """A line of a story and all that comes ahead of it, sorted."""
-    refuse_line(story, line)
+def with_pasts(story, lines):
+    """A table of some lines of a story and of all that comes ahead of them."""
     found = {}
-    left = [line]
+    left = list(lines)
     while left:
         one = left.pop()
         if one not in found:
             found[one] = True
             left.extend(story.causes_of[one])
-    return tuple(sorted(list(found)))
+    return found
+
+
+def past(story, line):
+    """A line of a story and all that comes ahead of it, sorted."""
+    refuse_line(story, line)
+    return tuple(sorted(list(with_pasts(story, [line]))))
 
 
 def height(story, line):

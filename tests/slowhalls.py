@@ -121,12 +121,14 @@ NAMES = ("a", "b", "c", "d")
 def some_deed(rnd, many, lines, letters):
     """A deed by chance, for so many machines; lines are some of the run, letters how many there may be."""
     name, letter = rnd.choice(NAMES[:many]), rnd.randrange(letters)
-    how = rnd.choice(["least", "greatest", f"turn {rnd.randint(0, 9)}", f"share {rnd.randint(0, 4)} {rnd.randint(0, 4)}"])
+    how = rnd.choice(["least", "greatest", f"turn {rnd.randint(0, 9)}",
+        f"share {rnd.randint(0, 4)} {rnd.randint(0, 4)}"])
     torn = rnd.choice(lines)[:rnd.randint(3, 30)] if lines else "m:0.A"
     words = " ".join([rnd.choice(lines + [torn, "word", "m:0.Nope"]) for _ in range(rnd.randint(1, 4))])
     return rnd.choice([
         f"begin {name}", f"work {name} {rnd.randint(0, 4)} {how}", f"work {name} {rnd.randint(1, 6)} {how}",
-        f"work {name} {rnd.randint(1, 3)} {how}", f"send {name} all", f"send {name} new", f"send {name} new", f"send {name} tops",
+        f"work {name} {rnd.randint(1, 3)} {how}", f"send {name} all", f"send {name} new", f"send {name} new",
+        f"send {name} tops",
         f"note {words}", f"tear {letter} {rnd.randint(0, 120)}", f"hand {letter} {name}", f"hand {letter} {name}",
         f"hand {letter} {name}", f"seek {letter} {name} {rnd.randint(0, 9)}", f"fall {name} {rnd.randint(0, 40)}",
         f"rise {name}", f"rise {name}", f"clean {name}",

@@ -10,7 +10,8 @@ from tests.helpers import raises
 from tests.test_causes import EXAMPLE
 
 GRAMMAR = {"DEED": [
-    ["begin", "*A"], ["work", "*A", "*N", "least"], ["work", "*A", "*N", "greatest"], ["work", "*A", "*N", "turn", "*N"],
+    ["begin", "*A"], ["work", "*A", "*N", "least"], ["work", "*A", "*N", "greatest"],
+    ["work", "*A", "*N", "turn", "*N"],
     ["work", "*A", "*N", "share", "*N", "*N"], ["send", "*A", "all"], ["send", "*A", "new"], ["send", "*A", "tops"],
     ["note", "WORDS"], ["tear", "*N", "*N"], ["hand", "*N", "*A"], ["seek", "*N", "*A", "*N"], ["fall", "*A", "*N"],
     ["rise", "*A"], ["clean", "*A"],
@@ -18,8 +19,10 @@ GRAMMAR = {"DEED": [
 NAMES = ("a", "work", "begin", "b2", "x_Y", "all", "z" * 24)
 NUMBERS = ("0", "7", "10", "999999999", "100000000")
 WORDS = NAMES + NUMBERS + (
-    "least", "greatest", "turn", "share", "new", "tops", "send", "note", "tear", "hand", "seek", "fall", "rise", "clean",
-    "1000000000", "00", "01", "-1", "-0", "+1", "1.0", "A", "Cons", "a-b", "_a", "1a", "kind", "fun", "let", "in", "z" * 25,
+    "least", "greatest", "turn", "share", "new", "tops", "send", "note", "tear", "hand", "seek", "fall", "rise",
+    "clean",
+    "1000000000", "00", "01", "-1", "-0", "+1", "1.0", "A", "Cons", "a-b", "_a", "1a", "kind", "fun", "let", "in",
+    "z" * 25,
     ";", "(", "a;", "(a)", "m:0.A", "#", "Begin", "WORK", "least;", "tops,", "x" * 40, "0" * 9,
 )
 SORTS = {
@@ -28,8 +31,10 @@ SORTS = {
     "*N": lambda word: word.isdigit() and str(int(word)) == word and len(word) <= 9,
     "*W": lambda word: True,
 }
-DEEDS = ("begin a", "work a 5 least", "work b2 0 greatest", "work work 999999999 turn 3", "work a 7 share 1 2", "send a all",
-         "send a new", "send a tops", "note x", "note m:0.A ( ; note -1", "tear 0 5", "hand 12 a", "seek 3 a 100", "fall a 0",
+DEEDS = ("begin a", "work a 5 least", "work b2 0 greatest", "work work 999999999 turn 3", "work a 7 share 1 2",
+    "send a all",
+         "send a new", "send a tops", "note x", "note m:0.A ( ; note -1", "tear 0 5", "hand 12 a", "seek 3 a 100",
+         "fall a 0",
          "rise a", "clean a", "begin begin", "hand 0 hand", "note note", "work a 0 share 0 0")
 
 
@@ -79,14 +84,18 @@ class Deeds(unittest.TestCase):
         for line, column in (
             ("x", 1), ("Begin a", 1), ("  begin", 8), ("begin", 6), ("begin  ", 6), ("begin A", 7), ("begin  kind", 8),
             ("begin a b", 9), ("begin a  ", None), ("begin a ;", 9), ("; begin a", 1), (";", 1), ("begin (", 7),
-            ("work", 5), ("work a", 7), ("work a least", 8), ("work a 5", 9), ("work a 5 most", 10), ("work a 5 least 3", 16),
+            ("work", 5), ("work a", 7), ("work a least", 8), ("work a 5", 9), ("work a 5 most", 10),
+            ("work a 5 least 3", 16),
             ("work a 5 turn", 14), ("work a 5 turn -1", 15), ("work a 5 share 3", 17), ("work a 5 share 3 x", 18),
             ("work a 5 share 3 4 5", 20), ("work 5 a least", 6), ("work a 1000000000 least", 8),
             ("work a 999999999 least", None), ("work a 05 least", 8), ("work a 000000005 least", 8), ("send a", 7),
             ("send a most", 8), ("send a all all", 12), ("note", 5), ("note ", 5), ("  note", 7), ("note ;", None),
-            ("note note note", None), ("tear 0", 7), ("tear a 5", 6), ("tear 0 5 5", 10), ("tear -0 5", 6), ("hand a 0", 6),
-            ("hand 0 0", 8), ("hand 0", 7), ("seek 0 a", 9), ("seek 0 a x", 10), ("seek 0 1 2", 8), ("seek 0 a 1 2", 12),
-            ("fall a", 7), ("fall 5 a", 6), ("fall a 1000000000", 8), ("rise", 5), ("rise a a", 8), ("clean", 6), ("clean 1", 7),
+            ("note note note", None), ("tear 0", 7), ("tear a 5", 6), ("tear 0 5 5", 10), ("tear -0 5", 6),
+            ("hand a 0", 6),
+            ("hand 0 0", 8), ("hand 0", 7), ("seek 0 a", 9), ("seek 0 a x", 10), ("seek 0 1 2", 8),
+            ("seek 0 a 1 2", 12),
+            ("fall a", 7), ("fall 5 a", 6), ("fall a 1000000000", 8), ("rise", 5), ("rise a a", 8), ("clean", 6),
+            ("clean 1", 7),
         ):
             self.assertEqual(self.check(line), column, line)
 

@@ -18,7 +18,8 @@ BOOK = SOME.book
 
 def told(hall):
     """All that a hall tells."""
-    machines = [(name, hall.is_up(name), hall.known_by(name), hall.state_by(name), hall.log_by(name), hall.made_by(name))
+    machines = [(name, hall.is_up(name), hall.known_by(name), hall.state_by(name), hall.log_by(name),
+        hall.made_by(name))
                 for name in hall.machine_names()]
     return machines, [hall.letter_text(k) for k in range(hall.letters_sent())], hall.double_work()
 
@@ -66,7 +67,8 @@ class Beginnings(unittest.TestCase):
             raises(self, BadNumber, {"what": "letter", "number": number}, hall.letter_text, number)
 
     def test_errors_ahead_of_all_deeds(self):
-        for text, line, column in (("begin a\nbegin", 2, 6), ("begin a\nwork a 1 least\n\nx", 4, 1), (None, 0, 0), (5, 0, 0),
+        for text, line, column in (("begin a\nbegin", 2, 6), ("begin a\nwork a 1 least\n\nx", 4, 1), (None, 0, 0),
+                (5, 0, 0),
                                    (["begin a"], 0, 0), ("begin a\nwork a 1 least\nsend a", 3, 7)):
             hall = hall_of(EXAMPLE, "begin b")
             raises(self, BadText, {"line": line, "column": column}, hall.do, text)
@@ -82,17 +84,21 @@ class Work(unittest.TestCase):
         self.assertEqual(next_lines(BOOK, []), ("m:1.#4", "m:3.Node"))
         one, two = ("m:1.#4",), ("m:3.Node",)
         for how, lines in (
-            ("least", one), ("greatest", two), ("turn 0", one), ("turn 1", two), ("turn 2", one), ("turn 999999999", two),
+            ("least", one), ("greatest", two), ("turn 0", one), ("turn 1", two), ("turn 2", one),
+            ("turn 999999999", two),
             ("turn 12", one), ("share 0 0", one), ("share 5 0", one), ("share 0 1", one), ("share 1 1", one),
             # m:1.#4 has 6 signs, m:3.Node has 8.
-            ("share 0 4", two), ("share 2 4", one), ("share 1 7", two), ("share 0 2", one), ("share 0 6", one), ("share 2 6", two),
-            ("share 3 4", one), ("share 6 6", one), ("share 8 9", two), ("share 0 9", one), ("share 6 7", one), ("share 9 9", one),
+            ("share 0 4", two), ("share 2 4", one), ("share 1 7", two), ("share 0 2", one), ("share 0 6", one),
+            ("share 2 6", two),
+            ("share 3 4", one), ("share 6 6", one), ("share 8 9", two), ("share 0 9", one), ("share 6 7", one),
+            ("share 9 9", one),
         ):
             self.assertEqual(self.made(f"work a 1 {how}"), lines, how)
         behind = next_lines(BOOK, ["m:3.Node"])
         self.assertEqual(behind, ("m:1.#4", "m:3.Node.1.Leaf", "m:3.Node.2.#3", "m:3.Node.3.Leaf"))
         for how, line in (("turn 2", behind[2]), ("turn 3", behind[3]), ("turn 6", behind[2]), ("greatest", behind[3]),
-                          ("share 1 2", behind[1]), ("share 6 10", behind[0]), ("share 3 10", behind[2]), ("share 5 10", behind[1])):
+                          ("share 1 2", behind[1]), ("share 6 10", behind[0]), ("share 3 10", behind[2]),
+                          ("share 5 10", behind[1])):
             self.assertEqual(self.made(f"work a 1 {how}", "begin a\nwork a 1 greatest\n"), ("m:3.Node", line), how)
 
     def test_how_many(self):
@@ -134,7 +140,8 @@ class Letters(unittest.TestCase):
     def test_all(self):
         hall = hall_of(BOOK, "begin a\nsend a all\nwork a 2 least\nsend a all\nsend a all\nnote word m:9.A m:1.#4\nhand 3 a\nsend a all")
         first = "m:1.#4\nm:1.#4.0.#2\n"
-        self.assertEqual([hall.letter_text(k) for k in range(5)], ["", first, first, "word\nm:9.A\nm:1.#4\n", first + "m:9.A\n"])
+        self.assertEqual([hall.letter_text(k) for k in range(5)],
+            ["", first, first, "word\nm:9.A\nm:1.#4\n", first + "m:9.A\n"])
         self.assertEqual(hall.letters_sent(), 5)
 
     def test_new(self):
@@ -240,7 +247,8 @@ class Falls(unittest.TestCase):
         hall = hall_of(BOOK, "begin a\nwork a 2 greatest\nfall a 1")
         self.assertEqual((hall.log_by("a"), hall.known_by("a")), ("m:3.Node\nm:3.Node.3.Leaf", ("m:3.Node",)))
         hall.do("rise a")
-        self.assertEqual((hall.log_by("a"), hall.known_by("a")), ("m:3.Node\nm:3.Node.3.Leaf\n", ("m:3.Node", "m:3.Node.3.Leaf")))
+        self.assertEqual((hall.log_by("a"), hall.known_by("a")), ("m:3.Node\nm:3.Node.3.Leaf\n",
+            ("m:3.Node", "m:3.Node.3.Leaf")))
         hall.do("fall a 3\nrise a")
         self.assertEqual(hall.known_by("a"), ("m:3.Node", "m:3.Node.3.Le"))
         self.assertEqual(hall.state_by("a"), ("m:3.Node",))
@@ -311,10 +319,12 @@ class Seeking(unittest.TestCase):
         self.assertEqual(self.seen("note m:1.#4.0.#2 m:0.#8\nseek 0 a 2")[0], ("m:1.#4", "m:1.#4.0.#2", "m:0.#8"))
         self.assertEqual(self.seen("note m:0.#8 m:1.#4.0.#2\nseek 0 a 2")[0], ("m:1.#4", "m:1.#4.0.#2"))
         self.assertEqual(self.seen("note m:0.#8 m:1.#4.0.#2 m:0.#8\nseek 0 a 2")[0], ("m:1.#4", "m:1.#4.0.#2"))
-        self.assertEqual(self.seen("note m:0.#8.0.#3 word m:1.#4 m:9.A m:3.Node\nseek 0 a 5")[0], ("m:1.#4", "m:3.Node"))
+        self.assertEqual(self.seen("note m:0.#8.0.#3 word m:1.#4 m:9.A m:3.Node\nseek 0 a 5")[0],
+            ("m:1.#4", "m:3.Node"))
 
     def test_lines_that_no_state_has(self):
-        for word in ("m:1.#5", "m:9.A", "m:1.#4.0.#3", "m:1.#4.0.#2.0.#8", "m:3.Node.9.Leaf", "m:3.Leaf", "word", "m:3.Node.1"):
+        for word in ("m:1.#5", "m:9.A", "m:1.#4.0.#3", "m:1.#4.0.#2.0.#8", "m:3.Node.9.Leaf", "m:3.Leaf", "word",
+                "m:3.Node.1"):
             self.assertEqual(self.seen(f"note {word}\nseek 0 a 999"), ((), 0))
             self.assertEqual(self.seen(f"note {word} m:1.#4\nseek 0 a 999"), (("m:1.#4",), 1))
 
@@ -344,7 +354,8 @@ class Double(unittest.TestCase):
     def test_double_work(self):
         for text, told_double in (
             ("begin a\nbegin b", 0), ("begin a\nbegin b\nwork a 3 least\nwork b 3 least", 3),
-            ("begin a\nbegin b\nwork a 1 least\nwork b 1 greatest", 0), ("begin a\nwork a 3 least\nfall a 999\nrise a\nwork a 4 least", 3),
+            ("begin a\nbegin b\nwork a 1 least\nwork b 1 greatest", 0),
+            ("begin a\nwork a 3 least\nfall a 999\nrise a\nwork a 4 least", 3),
             ("begin a\nbegin b\nwork a 2 least\nsend a all\nhand 0 b\nwork b 2 least\nsend b all\nhand 1 a\nwork a 9 least", 0),
             ("begin a\nbegin b\nbegin c\nwork a 99 least\nwork b 99 greatest\nwork c 99 turn 1", 22),
         ):

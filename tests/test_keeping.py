@@ -33,7 +33,8 @@ class Outlives(unittest.TestCase):
     def test_by_hand(self):
         hall = hall_of(BOOK, "begin a\nbegin b\nbegin c\nwork a 2 least\nsend a all\nhand 0 b\nwork b 1 greatest\nhand 0 c\nfall c 12")
         self.assertEqual(hall.log_by("c"), "m:1.#4\n")
-        for many, told in ((0, ("m:1.#4", "m:1.#4.0.#2", "m:3.Node")), (1, ("m:1.#4", "m:1.#4.0.#2")), (2, ("m:1.#4",)), (3, ()),
+        for many, told in ((0, ("m:1.#4", "m:1.#4.0.#2", "m:3.Node")), (1, ("m:1.#4", "m:1.#4.0.#2")),
+                (2, ("m:1.#4",)), (3, ()),
                            (4, ()), (10 ** 30, ())):
             self.assertEqual(outlives(hall, many), told)
             self.assertIs(outlives(hall, many).__class__, tuple)
@@ -88,7 +89,8 @@ class Outlives(unittest.TestCase):
 class Copies(unittest.TestCase):
     def test_by_hand(self):
         hall = hall_of(BOOK, "begin a\nbegin b\nbegin c\nwork a 2 least\nsend a all\nhand 0 b\nnote m:9.A word m:9.A\nhand 1 c\nhand 1 a\nfall b 1")
-        for line, many in (("m:1.#4", 2), ("m:1.#4.0.#2", 1), ("m:9.A", 2), ("m:3.Node", 0), ("word", 0), ("", 0), ("m:1", 0)):
+        for line, many in (("m:1.#4", 2), ("m:1.#4.0.#2", 1), ("m:9.A", 2), ("m:3.Node", 0), ("word", 0), ("", 0),
+                ("m:1", 0)):
             self.assertEqual(copies(hall, line), many)
         for word in STRANGE:
             self.assertEqual(copies(hall, word), 0)

@@ -94,8 +94,10 @@ class Packed(unittest.TestCase):
 class Unpacked(unittest.TestCase):
     def test_rows_that_tell_nothing(self):
         for row in (
-            "", " ", "  ", "m:0", "m:0 ", "m:0 A ", " m:0 A", "m:0  A", "m:0 A  0 B", "m:0 A 0", "m:0 A 0 ", "m:0 A B", "m:0 A B 0",
-            "m:0.A", "m:0 A.0.B", "m:0 A 0.B", "m:0.A 0 B", "m: A", "m:00 A", "m:-1 A", "m:x A", "0 A", "m 0 A", "m:0 a",
+            "", " ", "  ", "m:0", "m:0 ", "m:0 A ", " m:0 A", "m:0  A", "m:0 A  0 B", "m:0 A 0", "m:0 A 0 ",
+            "m:0 A B", "m:0 A B 0",
+            "m:0.A", "m:0 A.0.B", "m:0 A 0.B", "m:0.A 0 B", "m: A", "m:00 A", "m:-1 A", "m:x A", "0 A", "m 0 A",
+            "m:0 a",
             "m:0 # 1", "m:0 #", "m:0 #-0", "m:0 #01", "m:0 A 00 B", "m:0 A -1 B", "m:0 A x B", "m:0 A 0 b", "A", "word",
             "m:0 " + "A" * 25, "m:0 A,", "m:0 A;",
         ):
@@ -105,11 +107,14 @@ class Unpacked(unittest.TestCase):
 
     def test_back(self):
         for row, told in (
-            ("1 0 C", "m:1.B.0.C"), ("2 0 C", None), ("3 0 C", "m:0.A.0.C"), ("4 0 C", None), ("5 0 C", None), ("0 0 C", None),
+            ("1 0 C", "m:1.B.0.C"), ("2 0 C", None), ("3 0 C", "m:0.A.0.C"), ("4 0 C", None), ("5 0 C", None),
+            ("0 0 C", None),
             ("-1 0 C", None), ("01 0 C", None), ("1  0 C", None), ("1 0  C", None), (" 1 0 C", None), ("1 0 C ", None),
             ("+1 0 C", None), ("1 0", None), ("1 0 C 1", None), ("1 0 C 1 D", None), ("1 00 C", None), ("1 -1 C", None),
-            ("1 0 c", None), ("1 0 #-0", None), ("1 0 #-12", "m:1.B.0.#-12"), ("1 0 C.0.D", None), ("1 0.C 0", None), ("1 x C", None),
-            ("3 17 #0", "m:0.A.17.#0"), ("9999 0 C", None), ("1" + "0" * 9000 + " 0 C", None), ("1 " + "2" * 9000 + " C",
+            ("1 0 c", None), ("1 0 #-0", None), ("1 0 #-12", "m:1.B.0.#-12"), ("1 0 C.0.D", None), ("1 0.C 0", None),
+            ("1 x C", None),
+            ("3 17 #0", "m:0.A.17.#0"), ("9999 0 C", None), ("1" + "0" * 9000 + " 0 C", None),
+            ("1 " + "2" * 9000 + " C",
                                                                                            "m:1.B." + "2" * 9000 + ".C"),
             ("1.0 0 C", None), ("x 0 C", None), ("\u0661 0 C", None), ("m:1 0 C", None),
         ):
@@ -122,7 +127,8 @@ class Unpacked(unittest.TestCase):
         self.assertEqual(unpacked("1 0 C\nm:0 A\n1 0 C\n"), ("m:0.A", "m:0.A.0.C"))
 
     def test_lines_that_are_told_twice(self):
-        self.assertEqual(unpacked("m:0 A\nm:0 A\n1 0 B\n3 0 B\nm:0 A 0 B\n1 1 C\n"), ("m:0.A", "m:0.A.0.B", "m:0.A.0.B.1.C"))
+        self.assertEqual(unpacked("m:0 A\nm:0 A\n1 0 B\n3 0 B\nm:0 A 0 B\n1 1 C\n"),
+            ("m:0.A", "m:0.A.0.B", "m:0.A.0.B.1.C"))
         self.assertEqual(unpacked("m:1 B\nm:0 A\nm:1 B\n"), ("m:1.B", "m:0.A"))
 
     def test_cut_behind_each_sign(self):

@@ -129,7 +129,8 @@ class Facts(unittest.TestCase):
                     self.assertEqual(told(hall), behind)
                     ends += 1
         self.assertGreater(ends, 50)
-        hall = hall_of(book_of("beside", "Yes"), "begin a\nbegin b\nwork a 40 least\nsend a all\nhand 0 b\nwork b 40 least")
+        hall = hall_of(book_of("beside", "Yes"),
+            "begin a\nbegin b\nwork a 40 least\nsend a all\nhand 0 b\nwork b 40 least")
         self.assertEqual((hall.made_by("a"), hall.made_by("b"), len(hall.state_by("b"))), (40, 40, 80))
         self.assertIsNone(answer_of(net_of(book_of("beside", "Yes"), hall.state_by("b"))))
 
