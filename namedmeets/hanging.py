@@ -3,8 +3,9 @@
 from namedmeets.causes import heights, with_pasts
 from namedmeets.feeding import sources_in
 from namedmeets.labels import ROOT, is_maker
+from namedmeets.meaning import ends_within
 from namedmeets.meetings import many_parts
-from namedmeets.nets import doing_from, started
+from namedmeets.nets import done_all, started
 from namedmeets.values import is_integer
 from namedmeets.ways import Story
 
@@ -53,9 +54,9 @@ def cells_on(story, names):
 
 def whole_story(book, fuel):
     """The Story of the whole run of a book, None if it has more than fuel lines."""
-    work = doing_from(book, started(book))
-    work.do_least(fuel)
-    return None if work.waiting else Story(book, work.lines_done())
+    if not ends_within(book, fuel):
+        return None
+    return Story(book, done_all(book, started(book), fuel)[1])
 
 
 def answer_cells(story):

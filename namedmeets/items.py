@@ -6,6 +6,7 @@ from namedmeets.flatrun import flat_plain
 from namedmeets.flatten import flattened
 from namedmeets.forms import refuse_formless
 from namedmeets.halls import hall_of
+from namedmeets.hanging import idle_names, whole_story
 from namedmeets.nets import Book
 from namedmeets.programs import Program
 from namedmeets.values import value_from
@@ -36,7 +37,7 @@ class Item:
 
 
 class RunContent:
-    """What was read of a run: its Book. It keeps what the run comes to once that was asked for."""
+    """What was read of a run: its Book. It keeps what was asked for once."""
 
     def __init__(self, book):
         self.book = book
@@ -48,9 +49,16 @@ class RunContent:
             self.known["came"] = flat_plain(self.book.flat, self.book.name, self.book.given, FUEL)
         return self.known["came"]
 
+    def idle(self):
+        """The cells of the values on which nothing of the value hangs to which the run comes."""
+        if "idle" not in self.known:
+            # Each count is a meeting.
+            self.known["idle"] = idle_names(whole_story(self.book, self.came().count))
+        return self.known["idle"]
+
 
 class HallContent:
-    """What was read of a hall: the Book of its run, and its weaving. It keeps the Hall once that was asked for."""
+    """What was read of a hall: the Book of its run, and its weaving. It keeps what was asked for once."""
 
     def __init__(self, book, weaving):
         self.book = book

@@ -1,7 +1,7 @@
 """What nets mean."""
 
 from namedmeets.feeding import sources_in
-from namedmeets.flatrun import FlatGuide
+from namedmeets.flatrun import FlatGuide, flat_plain
 from namedmeets.holding import ends_of, in_flow
 from namedmeets.labels import ROOT
 from namedmeets.machine import sign_value, worked_out
@@ -45,3 +45,8 @@ def meant(book, net, fuel):
         if count > fuel:
             return None
     return Came(given[source[ROOT][0]], count)
+
+
+def ends_within(book, fuel):
+    """Whether the whole run of a book has at most so many meetings, told without its net: they are what is counted."""
+    return flat_plain(book.flat, book.name, book.given, fuel) is not None

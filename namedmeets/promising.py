@@ -2,7 +2,6 @@
 
 from namedmeets.errors import BadNumber, BadText, NoName
 from namedmeets.forms import refuse_formless
-from namedmeets.hanging import idle_names, whole_story
 from namedmeets.keeping import outlives
 from namedmeets.nets import started
 from namedmeets.states import next_lines
@@ -57,11 +56,9 @@ def judge_spares(run, rest):
     book = run.book
     if int(rest[0]) >= len(book.given):
         raise BadNumber("argument", int(rest[0]))
-    came = run.came()
-    if came is None:
+    if run.came() is None:
         return (False, None)
-    # Each count is a meeting.
-    idle = {name: True for name in idle_names(whole_story(book, came.count))}
+    idle = {name: True for name in run.idle()}
     names = [cell.name for cell in started(book).cells if cell.name.partition(":")[0] == f"a{rest[0]}"]
     hanging = tuple([name for name in names if name not in idle])
     return (len(hanging) == 0, hanging)

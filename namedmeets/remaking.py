@@ -3,6 +3,7 @@
 from namedmeets.calls import refuse_fuel
 from namedmeets.edits import carried
 from namedmeets.errors import BadNumber
+from namedmeets.meaning import ends_within
 from namedmeets.nets import answer_of, doing_from, net_in, started
 from namedmeets.values import is_integer
 
@@ -60,24 +61,18 @@ class Remake:
         return None if self.work.waiting else answer_of(net_in(self.work))
 
 
-def cost_of(remake, fuel):
-    """How many lines stand in a Remake, and how many are made until its run ends, within so much fuel in all."""
-    stood = len(remake.lines)
-    made = remake.go(max(0, fuel - stood))
-    if stood + made > fuel or remake.work.waiting:
-        raise BadNumber("fuel", fuel)
-    return (stood, made)
-
-
 def costs(cases, fuel):
     """For each case how many lines stand when a Remake comes to it, and how many are made then."""
     refuse_fuel(fuel)
+    for case in cases:
+        if not ends_within(case.book, fuel):
+            raise BadNumber("fuel", fuel)
     told = []
     remake = None
     for case in cases:
         if remake is None:
             remake = Remake(case)
-        else:
-            remake.change(case)
-        told.append(cost_of(remake, fuel))
+        remake.change(case)
+        stood = len(remake.lines)
+        told.append((stood, remake.go(fuel)))
     return tuple(told)
