@@ -1,7 +1,7 @@
 """Forms of lines: which words may stand where.
 
 A form is a tuple of words. A stands for any small name, 6 and 9 for an integer from 0 on as it is written, of at most
-so many digits; V stands for no word; each other word stands for itself.
+so many digits; each other word stands for itself.
 """
 
 from namedmeets.errors import BadText
@@ -14,7 +14,7 @@ def can_stand(told, word):
         return is_small(word)
     if told == "6" or told == "9":
         return is_natural(word) and len(word) <= int(told)
-    return told == word and told != "V"
+    return told == word
 
 
 def refuse_formless(forms, words, line):

@@ -12,7 +12,7 @@ def is_word(part):
 
 def are_parts(parts):
     """Whether some strings are those that the points of a LINE part: m: and a number, a word, a number, a word .."""
-    if len(parts) == 0 or len(parts) % 2 == 1 or parts[0][:2] != "m:":
+    if len(parts) % 2 == 1 or parts[0][:2] != "m:":
         return False
     numbers = [parts[0][2:], *parts[2::2]]
     return all([is_natural(part) for part in numbers]) and all([is_word(part) for part in parts[1::2]])

@@ -49,12 +49,6 @@ def maker_at(story, lines, end):
     return one[0] if is_maker(story.cells[one[0]].label) else None
 
 
-def label_at(story, lines, name):
-    """The label of the cell with this name behind those lines of a story that are in a table, None if it never came."""
-    born = story.lines_born.get(name)
-    return story.cells[name].label if name in story.cells and (born is None or born in lines) else None
-
-
 def word_in(story, name):
     """The word of a maker of a story."""
     return word_of(story.cells[name].label)
@@ -101,8 +95,11 @@ class Compared:
         """The Parting of a line that can be done in the first run behind what is carried, but is not."""
         worker, _, word = line.rpartition(".")
         cell = self.here.row_from((worker, 0))[-1][0]
-        label = label_at(self.there, kept, worker)
-        if label != self.here.cells[worker].label or maker_at(self.there, kept, (worker, 0)) != cell:
+        # A line by which the worker came is a cause, and so is carried.
+        there = self.there.cells.get(worker)
+        if there is None or there.label != self.here.cells[worker].label:
+            return Parting(line, word, None, cell, "gone")
+        if maker_at(self.there, kept, (worker, 0)) != cell:
             return Parting(line, word, None, cell, "gone")
         other = word_in(self.there, cell)
         return Parting(line, word, other, cell, "row" if word == other else "maker")

@@ -8,8 +8,9 @@ from namedmeets.states import next_lines
 from namedmeets.values import value_from, written_value
 from namedmeets.words import is_small, split_at_blanks
 
+# Of the first form only what stands ahead of the value is looked at.
 FORMS = (
-    ("A", "gives", "V"),
+    ("A", "gives", "VALUE"),
     ("A", "within", "6"),
     ("A", "spares", "6"),
     ("A", "answers", "A"),

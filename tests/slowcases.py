@@ -133,6 +133,29 @@ def some_sums(seeds):
         yield rnd, Case(RICH, "calc", [rnd.randint(-3, 3) for _ in range(3)])
 
 
+def some_sum(rnd, depth, names):
+    """The text of a sum by chance, for a part of a body."""
+    if depth == 0 or rnd.random() < 0.25:
+        return rnd.choice(names + ["1", "2"])
+    if rnd.random() < 0.3:
+        name = f"x{len(names)}"
+        return f"(let {name} = {some_sum(rnd, depth - 1, names)} in {some_sum(rnd, depth - 1, names + [name])})"
+    return f"(+ {some_sum(rnd, depth - 1, names)} {some_sum(rnd, depth - 1, names)})"
+
+
+def some_wirings(seeds):
+    """Pairs of cases with other bodies, and the same small numbers all over, so that many lines have the same names."""
+    for seed in seeds:
+        rnd = random.Random(seed)
+        texts = [f"kind P = P Num Num\nfun f Num Num = P\nf a b = P {some_sum(rnd, 3, ['a', 'b'])} {some_sum(rnd, 3, ['a', 'b'])}\n"
+                 for _ in range(2)]
+        try:
+            yield [Case(text, "f", [1, 1]) for text in texts]
+        except JoinError:
+            # A name was given twice.
+            pass
+
+
 def flat_rows(book):
     """For each flat function and maker the number of places, that of names, and the body but for its names."""
     return {(function.name, row.maker): (len(function.places), len(row.names), flat_text(row.names, row.body))

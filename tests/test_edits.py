@@ -18,6 +18,7 @@ from namedmeets.values import value_from, written_value
 from tests.helpers import raises
 from tests.slowcases import carried_slowly, edited, some_cases
 from tests.slownets import some_run
+from tests.test_states import STRANGE
 
 TEXT = """kind List = Nil | Cons Num List
 kind Tree = Leaf | Node Tree Num Tree
@@ -65,6 +66,9 @@ class Cases(unittest.TestCase):
                       (TEXT, "append", (TWO, ONE))):
             self.assertFalse(CASE == other)
             self.assertTrue(CASE != other)
+        text = "fun f Num = Num\nf n = n\nfun g Num = Num\ng n = n\n"
+        self.assertFalse(Case(text, "f", [1]) == Case(text, "g", [1]))
+        self.assertTrue(Case(text, "g", [1]) == Case(text, "g", (1,)))
 
     def test_errors_in_their_order(self):
         for text, fields in ((None, (0, 0)), (5, (0, 0)), ("x", (1, 1)), (TEXT + "\nboth (", (13, 7)),
@@ -380,6 +384,8 @@ class Carried(unittest.TestCase):
             self.assertIs(is_shared(first.book, other.book, words), told)
             self.assertIs(is_shared(first.book, other.book, list(words)), told)
             self.assertIs(is_shared(other.book, first.book, words), told)
+        self.assertEqual(carried(first.book, other.book, STRANGE + list(lines)), lines[:2])
+        self.assertIs(is_shared(first.book, other.book, [*lines[:2], ["x"]]), False)
 
 
 class Facts(unittest.TestCase):

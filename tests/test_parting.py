@@ -13,7 +13,7 @@ from namedmeets.parting import Blame, Parting, blame, parting, unlike_places
 from namedmeets.values import Made, part_at, places_of, value_from
 from namedmeets.ways import Story
 from tests.helpers import chain, raises
-from tests.slowcases import carried_slowly, edited, rich_cases, some_cases, some_sums
+from tests.slowcases import carried_slowly, edited, rich_cases, some_cases, some_sums, some_wirings
 from tests.slownets import MAKERS, SlowNet
 from tests.test_causes import EXAMPLE, SOME
 from tests.test_demands import FUELS
@@ -289,6 +289,19 @@ class Blames(unittest.TestCase):
                         same_program += 1
         self.assertGreater(several, 10)
         self.assertGreater(same_program, 10)
+
+    def test_lines_that_are_carried_for_other_places(self):
+        # What is carried of all lines of a run may be more than what is carried of those that a place needs.
+        text = "kind P = P Num Num\nfun f Num Num = P\nf a b = "
+        one, other = Case(text + "P (+ a 1) b", "f", [1, 1]), Case(text + "P b (+ a 1)", "f", [1, 1])
+        self.assertEqual([(row.place, row.here, row.there, told(row.partings)) for row in blame(one.book, other.book, 9)], [
+            ((0,), "#2", "#1", [(None, "#2", "#1", "m:1.#1.0.#1.0", "stands")]), ((1,), "#1", "#2", [(None, "#1", None, "a1", "stands")])])
+        checked = 0
+        for one, other in some_wirings(range(2000)):
+            for row in blame(one.book, other.book, 99):
+                self.assertEqual(told(row.partings), parting_slowly(one.book, other.book, row.place, 99))
+                checked += 1
+        self.assertGreater(checked, 300)
 
     def test_long_runs(self):
         value = chain(300, value_from("Nil"))

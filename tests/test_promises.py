@@ -32,6 +32,8 @@ fun full Num = Num
 full n = + 0 (+ 0 (down n))
 fun over Num Truth = Num
 over n t = + (+ (down n) 0) (ever t)
+fun two_sums Num Num = Num
+two_sums a b = + (+ a 3) (+ b 4)
 run left on q left
 Cons 1 Nil
 Cons 2 Nil
@@ -65,6 +67,14 @@ begin b
 work a 2 least
 send a all
 work b 1 least
+run sum on q two_sums
+1
+2
+hall sums on sum
+begin a
+begin b
+work b 1 greatest
+work b 1 greatest
 hall none on r
 hall fallen on r
 begin a
@@ -224,6 +234,8 @@ class Kept(unittest.TestCase):
 
     def test_answers(self):
         self.check("h answers a", "m:0.Cons.1.Nil")
+        self.check("sums answers a", "m:1.#1")
+        self.check("sums answers b", "m:1.#1")
         self.check("two answers a")
         self.check("two answers b", "m:0.Cons.1.Nil")
         self.check("fallen answers a")

@@ -253,6 +253,11 @@ class IsWhy(unittest.TestCase):
         for place in ((1,), (1, 0), (0, 0), (2,), (0, -1), (1, 1, 1)):
             self.no(EXAMPLE, head, place=place)
             self.no(EXAMPLE, Why(place, "#1", (), (), ()))
+        # A worker stands there, whose function has this name; what is no index leads to no part.
+        self.no(EXAMPLE, Why((), "append", (), (), ()))
+        self.no(SOME.book, Why((), "-", (), (("some", 0, 1),), ()))
+        for place in ((True,), ("1",), (None,), (1.0,)):
+            self.no(EXAMPLE, why(EXAMPLE, (1,), 9), place=place)
         self.assertTrue(is_why(EXAMPLE, Why([0], head.word, list(head.steps), list(head.rows), list(head.cells))))
 
     def test_other_books(self):
