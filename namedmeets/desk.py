@@ -1,9 +1,7 @@
 """A desk for programs, runs and halls, which keeps promises."""
 
 from namedmeets.edits import carried
-from namedmeets.errors import (
-    BadName, BadNumber, BadText, NoName, NotKept, NothingToRedo, NothingToUndo, TakenName,
-)
+from namedmeets.errors import BadName, BadNumber, BadText, NoName, NotKept, NothingToRedo, NothingToUndo, TakenName
 from namedmeets.items import Item, begins_as_head, file_lines, told_items, with_items, with_name
 from namedmeets.logs import held
 from namedmeets.nets import Book
